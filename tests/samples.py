@@ -48,10 +48,10 @@ TRIANGLES = (1, ((0, 0, 0, 1), (0, 0, 1, 0), (0, 0, 1, 1)))
 HONEYCOMB = (2, ((0, 1, -1, 0), (0, 1, 0, -1), (0, 1, 0, 0)))
 KAGOME = (3, ((0, 1, -1, 0), (0, 1, 0, 0), (0, 2, 0, -1), (0, 2, 0, 0), (1, 2, 0, 0), (1, 2, 1, -1)))
 OCTAGONS = (4, ((0, 1, 0, 0), (0, 2, 0, 0), (0, 3, -1, 0), (1, 2, 0, -1), (1, 3, 0, 0), (2, 3, 0, 0)))
-# One round of four ties goes three cells on, another one four, so it takes many ties to come one cell on.
-CROOKED = (4, ((0, 1, 1, 1), (0, 3, -1, -1), (1, 2, 1, 1), (2, 3, 0, 1), (2, 3, 1, 0)))
+# Its rounds go several cells on, so it takes many ties to come just one cell on.
+CROOKED = (4, ((0, 1, -1, 1), (0, 2, -1, 0), (0, 2, 1, -1), (0, 3, 1, 1), (1, 2, 0, 1), (2, 3, -1, -1)))
 
-TOGETHER = (SQUARES, KINGS, TRIANGLES, HONEYCOMB, KAGOME, OCTAGONS)
+TOGETHER = (SQUARES, KINGS, TRIANGLES, HONEYCOMB, KAGOME, OCTAGONS, CROOKED)
 
 BARE = (1, ())
 BARE_FOUR = (4, ())
@@ -65,10 +65,36 @@ BRICKED_LINES = (3, ((0, 1, 0, 0), (0, 2, 1, 0), (1, 2, 0, 0)))
 EVEN_ROUNDS = (2, ((0, 0, 0, 1), (0, 1, -1, 0), (0, 1, 1, 0)))
 # All rounds go by multiples of 3 in x.
 THIRDS = (3, ((0, 0, 0, 1), (0, 1, 1, 0), (0, 2, -1, 0), (1, 2, 1, 0)))
+# The same where the places of the round are first come to from the last one.
+THIRDS_BACK = (4, ((0, 0, 0, 1), (0, 3, 0, 0), (1, 2, -1, 0), (1, 3, 1, 0), (2, 3, -1, 0)))
+THIRDS_UP = (4, ((0, 0, 1, 0), (0, 3, 0, 0), (1, 2, 0, -1), (1, 3, 0, 1), (2, 3, 0, -1)))
 # All rounds have sums of x and y that are even.
 EVEN_SUMS = (2, ((0, 1, -1, 0), (0, 1, 0, -1), (0, 1, 0, 1), (0, 1, 1, 0)))
 
 APART = (
     BARE, BARE_FOUR, LINES, CROSS_LINES, CHECKERS, LONE_PLACE, TWO_LAYERS, BRICKED_LINES,
-    EVEN_ROUNDS, THIRDS, EVEN_SUMS,
+    EVEN_ROUNDS, THIRDS, THIRDS_BACK, THIRDS_UP, EVEN_SUMS,
 )
+
+
+def ties_from(grid, place):
+    """The neighbours of a place, by the words of point 6, in no order."""
+    p, u, v = place
+    return {(b, u + x, v + y) for a, b, x, y in grid[1] if a == p} | {
+        (a, u - x, v - y) for a, b, x, y in grid[1] if b == p
+    }
+
+
+def searched(grid, start, n):
+    """How far each place at most n far is, by a search of its own."""
+    shells = [{(start, 0, 0)}]
+    seen = set(shells[0])
+    for _ in range(n):
+        shells.append(set().union(*(ties_from(grid, place) for place in shells[-1])) - seen)
+        seen |= shells[-1]
+    return {place: number for number, shell in enumerate(shells) for place in shell}
+
+
+def is_walked(grid, way):
+    """Whether each place of the way but the first is tied to the one ahead, and it has one at least."""
+    return len(way) > 0 and all(other in ties_from(grid, one) for one, other in zip(way, way[1:]))

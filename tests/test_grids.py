@@ -182,10 +182,10 @@ class MadeGrid(unittest.TestCase):
             self.assertNoGrid(2, ((0, 1, 0, 0), tie))
         for at in range(4):
             for wrong in (True, False, None, "0", [], (0,), 2, -2, 4, -1 if at < 2 else 3, 10 ** 30):
-                tie = [0, 1, 1, -1]
-                tie[at] = wrong
-                self.assertNoGrid(2, [tuple(tie)])
-                self.assertNoGrid(2, [(1, 0, 0, 0), tuple(tie)])
+                for right in ((0, 1, 1, -1), (1, 0, 1, -1)):
+                    tie = right[:at] + (wrong,) + right[at + 1:]
+                    self.assertNoGrid(2, [tie])
+                    self.assertNoGrid(2, [(1, 0, 0, 0), tie])
         self.assertNoGrid(1, [[0, 0, 0, 1]])
         self.assertNoGrid(1, [(0, 0, 1)])
         self.assertNoGrid(1, [(0, 0, 0, 1, 0)])
