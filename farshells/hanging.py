@@ -82,13 +82,24 @@ def ways_together(grid, cells):
     return [way_by(grid, far, end) for end in ends]
 
 
+def comes_to_all(base):
+    """Whether all cells are sums of the base."""
+    return base[0] == 1 and base[2] == 1
+
+
+def hangs_together(grid):
+    """Whether the grid hangs together, without the ways or marks that show it."""
+    cells = cells_come_to(grid)
+    return len(cells) == grid[0] and comes_to_all(base_of(steps_round(grid, cells)))
+
+
 def hanging_of(grid):
     """(True, ways) or (False, (m, x, y, marks)): whether the grid hangs together, and why."""
     cells = cells_come_to(grid)
     if len(cells) < grid[0]:
         return False, (2, 0, 0, tuple([0 if p in cells else 1 for p in range(grid[0])]))
     base = base_of(steps_round(grid, cells))
-    if base[0] == 1 and base[2] == 1:
+    if comes_to_all(base):
         return True, ways_together(grid, cells)
     return False, marks_apart(grid, cells, base)
 

@@ -15,6 +15,11 @@ def greatest_common(one, other):
     return abs(one)
 
 
+def least_multiple(one, other):
+    """The least number from 1 on that both divide, of numbers from 1 on."""
+    return one * other // greatest_common(one, other)
+
+
 def is_ratio(thing):
     """Whether it is a ratio: (top, bottom) in lowest terms, the bottom from 1 on."""
     if not (isinstance(thing, tuple) and len(thing) == 2):
