@@ -83,12 +83,17 @@ def is_place(grid, thing):
     return 0 <= thing[0] < grid[0] and abs(thing[1]) < TOO_LARGE and abs(thing[2]) < TOO_LARGE
 
 
+def steps_from(grid, p):
+    """The neighbours of place p of the cell (0, 0)."""
+    # A tie of a place p to another p leads on from both ends, so both tests can be due.
+    onward = [(b, x, y) for a, b, x, y in grid[1] if a == p]
+    backward = [(a, -x, -y) for a, b, x, y in grid[1] if b == p]
+    return onward + backward
+
+
 def neighbours_of(grid, place):
     """The rising list of the place's neighbours; NoPlace where it is no place of the grid."""
     if not is_place(grid, place):
         raise NoPlace("this is no place of the grid")
     p, u, v = place
-    # A tie of a place p to another p leads on from both ends, so both tests can be due.
-    onward = [(b, u + x, v + y) for a, b, x, y in grid[1] if a == p]
-    backward = [(a, u - x, v - y) for a, b, x, y in grid[1] if b == p]
-    return sorted(onward + backward)
+    return sorted([(q, u + x, v + y) for q, x, y in steps_from(grid, p)])

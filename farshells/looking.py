@@ -1,14 +1,16 @@
 """How far places are from a start, as far as can be looked."""
 
-from farshells.grids import is_place, neighbours_of
+from farshells.grids import is_place, neighbours_of, steps_from
 from farshells.ratios import is_whole
 
 
 def go_on(grid, far, rim, number):
     """Write down all neighbours of the rim that are new, as so far away; tell them."""
+    steps = [steps_from(grid, p) for p in range(grid[0])]
     found = []
-    for place in rim:
-        for other in neighbours_of(grid, place):
+    for p, u, v in rim:
+        for q, x, y in steps[p]:
+            other = (q, u + x, v + y)
             if other not in far:
                 far[other] = number
                 found.append(other)
@@ -37,6 +39,15 @@ def shells_near(grid, start, n):
     for place, number in look_from(grid, start, n):
         shells[number] += 1
     return shells
+
+
+def fits_beside(number, beside, is_home):
+    """Whether a place can be so far by its neighbours' numbers: 0 for the start alone."""
+    if any(abs(other - number) > 1 for other in beside):
+        return False
+    if is_home:
+        return number == 0
+    return number > 0 and number - 1 in beside
 
 
 def is_sight(grid, thing):

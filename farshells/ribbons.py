@@ -1,6 +1,7 @@
 """Ribbons, grids in one direction alone, and the rules of how far their places are."""
 
 from farshells.grids import are_ties, is_places, is_tuple_of_wholes
+from farshells.looking import fits_beside
 from farshells.ratios import is_whole
 
 MOST_TIES = 8
@@ -66,11 +67,7 @@ def number_right(ribbon, start, rule, place):
     """Whether a place's number fits those of its neighbours, and is 0 of the start alone."""
     number = rule_number(ribbon, rule, place)
     beside = [rule_number(ribbon, rule, other) for other in ribbon_neighbours(ribbon, place)]
-    if any(abs(other - number) > 1 for other in beside):
-        return False
-    if place == (start, 0):
-        return number == 0
-    return number > 0 and number - 1 in beside
+    return fits_beside(number, beside, place == (start, 0))
 
 
 def rule_holds(ribbon, start, rule):

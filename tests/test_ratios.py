@@ -145,7 +145,8 @@ class Sums(unittest.TestCase):
             self.assertTrue(up - 1 < Fraction(*one) <= up)
 
     def test_whole_up_by_hand(self):
-        told = [whole_up(one) for one in ((0, 1), (5, 1), (-5, 1), (1, 2), (-1, 2), (7, 2), (-7, 2), (1, SIXTY), (-1, SIXTY))]
+        ratios = ((0, 1), (5, 1), (-5, 1), (1, 2), (-1, 2), (7, 2), (-7, 2), (1, SIXTY), (-1, SIXTY))
+        told = [whole_up(one) for one in ratios]
         self.assertEqual(told, [0, 5, -5, 1, 0, 4, -3, 1, 0])
 
 
