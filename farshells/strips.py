@@ -44,10 +44,9 @@ def edge_for(middle, step):
 def goes_on_by(ribbon, far, middle, step, sign):
     """The rise by which all numbers beyond middle are those a step nearer, 0 where there is none."""
     rise = far[(0, sign * (middle + 1))] - far[(0, sign * (middle + 1 - step))]
-    cells = range(middle + 1, edge_for(middle, step) + 1)
     if all(
         far[(p, sign * x)] - far[(p, sign * (x - step))] == rise
-        for x in cells for p in range(ribbon[0])
+        for x in range(middle + 1, edge_for(middle, step) + 1) for p in range(ribbon[0])
     ):
         return max(rise, 0)
     return 0

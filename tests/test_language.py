@@ -25,6 +25,30 @@ BARRED_NODES = (
 )
 
 
+ITERATED_AT_ONCE = ("range", "zip", "enumerate", "reversed")
+ITERATING = "list tuple dict sorted sum any all enumerate zip bytes min max len".split()
+
+
+def is_lazy(node):
+    """Whether it is a call whose outcome is iterated on the spot, not stored."""
+    if not isinstance(node, ast.Call):
+        return False
+    if isinstance(node.func, ast.Attribute):
+        return node.func.attr in ("items", "keys", "values")
+    return isinstance(node.func, ast.Name) and node.func.id in ITERATED_AT_ONCE
+
+
+def iterated(tree):
+    """All that is iterated where it stands, or asked for by in."""
+    for node in ast.walk(tree):
+        if isinstance(node, (ast.For, ast.comprehension)):
+            yield node.iter
+        elif isinstance(node, ast.Call) and isinstance(node.func, ast.Name) and node.func.id in ITERATING:
+            yield from node.args
+        elif isinstance(node, ast.Compare):
+            yield from node.comparators
+
+
 def bound_names(tree):
     """Every name that a file gives a meaning to."""
     names = []
@@ -100,6 +124,26 @@ class Language(unittest.TestCase):
             for node in ast.walk(tree):
                 if isinstance(node, ast.Name) and node.id not in names + imported:
                     self.assertIn(node.id, ALLOWED_BUILTINS)
+
+    def test_what_is_iterated_at_once_is_not_stored(self):
+        for path, text, tree in self.each():
+            at_once = list(iterated(tree))
+            for node in ast.walk(tree):
+                if is_lazy(node):
+                    self.assertIn(node, at_once, ast.unparse(node))
+                if isinstance(node, ast.GeneratorExp):
+                    self.assertIn(node, at_once, ast.unparse(node))
+
+    def test_sets_stand_in_sorted_or_len_or_behind_in(self):
+        for path, text, tree in self.each():
+            asked = [
+                part for node in ast.walk(tree) if isinstance(node, ast.Call) and isinstance(node.func, ast.Name)
+                and node.func.id in ("sorted", "len") for part in node.args
+            ]
+            asked += [part for node in ast.walk(tree) if isinstance(node, ast.Compare) for part in node.comparators]
+            for node in ast.walk(tree):
+                if isinstance(node, (ast.Set, ast.SetComp)):
+                    self.assertIn(node, asked, ast.unparse(node))
 
     def test_no_module_level_code(self):
         for path, text, tree in self.each():
