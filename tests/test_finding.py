@@ -1,5 +1,6 @@
 """Point 20, with 16 and 18: the paper of cones, found."""
 
+import functools
 import unittest
 
 from farshells.cones import cones_hold, cones_number
@@ -55,6 +56,7 @@ def is_beyond(grid):
     return len(rays) > 40 or tables_of(grid, rays) > 200 or reach_by_words(rays) > 12
 
 
+@functools.cache
 def found(grid, start):
     """The paper that is told, None where it is refused."""
     try:

@@ -116,7 +116,7 @@ class Language(unittest.TestCase):
         for path, text, tree in self.each():
             imported = [one.asname or one.name for node in ast.walk(tree)
                         if isinstance(node, ast.ImportFrom) for one in node.names]
-            names = bound_names(tree)
+            names = [name for name in bound_names(tree) if name != "__init__"]
             for name in names:
                 self.assertRegex(name, r"^[A-Za-z][A-Za-z0-9_]*$")
                 self.assertFalse(hasattr(builtins, name), name)
