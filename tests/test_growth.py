@@ -121,6 +121,7 @@ class Areas(unittest.TestCase):
         for at in range(len(corners)):
             self.assertEqual(shape_area(corners[at:] + corners[:at]), area)
             self.assertEqual(shape_area(tuple(corners[at:] + corners[:at])), area)
+        self.assertEqual(shape_area(corners[::-1]), area)
 
 
 class Kept(unittest.TestCase):
